@@ -1,0 +1,48 @@
+"""The sessions of the document's examples, written as they stand there."""
+
+import unittest
+
+from halfbuilt.errors import BuildError
+
+SESSIONS = ["""
+>>> from halfbuilt.schemas import Schema
+>>> schema = Schema([("box", (("items", "later", "set", ("", "pair")),), "own"), ("pair", (("left", "first", "one", ("", "box")), ("tag", "later", "one", ("",))), ("left", "tag"))])
+>>> (schema.names, schema.reads("pair"), schema.grounded())
+(('box', 'pair'), ('left', 'tag'), ['box', 'pair'])
+""", """
+>>> from halfbuilt.schemas import Schema
+>>> Schema([])
+raises BadSchema(name=None)
+""", """
+>>> from halfbuilt.graphs import Graph, hashes, is_sound, members
+>>> from halfbuilt.schemas import Schema
+>>> schema = Schema([("box", (("items", "later", "set", ("", "pair")),), "own"), ("pair", (("left", "first", "one", ("", "box")), ("tag", "later", "one", ("",))), ("left", "tag"))])
+>>> graph = Graph(schema, {"b": ("box", (("p",),)), "p": ("pair", ("b", 7))})
+>>> (hashes(graph, "p"), members(graph), is_sound(graph))
+(['b'], ['p'], True)
+"""]
+
+
+def shown(row, names):
+    """What a row of a session shows: the result, or the error with its attribute."""
+    try:
+        return repr(eval(row, names))
+    except BuildError as error:
+        parts = ", ".join(f"{name}={worth!r}" for name, worth in vars(error).items())
+        return f"raises {type(error).__name__}({parts})"
+
+
+class ExamplesTest(unittest.TestCase):
+    def test_sessions(self):
+        for session in SESSIONS:
+            names = {}
+            rows = session.strip().split("\n")
+            for row, answer in zip(rows, rows[1:] + [">>> "]):
+                if row.startswith(">>> ") and answer.startswith(">>> "):
+                    exec(row[4:], names)
+                elif row.startswith(">>> "):
+                    self.assertEqual(shown(row[4:], names), answer)
+
+
+if __name__ == "__main__":
+    unittest.main()
