@@ -85,29 +85,30 @@ def is_sound(graph):
 
 def endless(graph):
     """None, or a walk from a member along hashes that ends at an object where it was before."""
-    hashed = {name: hashes(graph, name) for name in graph.names}
-    ending = _ending(hashed)
+    hashed_by = _hashed_by(graph)
+    ending = in_order(hashed_by)
     for name in members(graph):
         if name not in ending:
-            return _endless_walk(hashed, ending, name)
+            return walk_round(hashed_by, ending, name)
     return None
+
+
+def hashed(graph):
+    """The ascending list of the objects that are hashed: members, and what they hash, and so on."""
+    return _led_to(_hashed_by(graph), members(graph))
 
 
 def reached(graph, roots):
     """The ascending list of the objects to which roots lead, themselves included."""
-    _check_roots(graph, roots)
-    found = {}
-    waiting = list(roots)
-    while waiting:
-        name = waiting.pop()
-        if name not in found:
-            found[name] = True
-            slots = graph.schema.slots(graph.class_of(name))
-            waiting.extend(objects_in(graph, name, [slot[0] for slot in slots]))
-    return sorted(found)
+    check_roots(graph, roots)
+    led = {}
+    for name in graph.names:
+        led[name] = objects_in(graph, name, [slot[0] for slot in graph.schema.slots(graph.class_of(name))])
+    return _led_to(led, roots)
 
 
-def _check_roots(graph, roots):
+def check_roots(graph, roots):
+    """Raises BadRoots if roots are not a list of objects of a graph."""
     if not isinstance(roots, (list, tuple)):
         raise BadRoots(0)
     names = graph.names
@@ -116,20 +117,46 @@ def _check_roots(graph, roots):
             raise BadRoots(index)
 
 
-def _ending(hashed):
-    """The objects whose hashes end: those that hash only such objects, from the innermost on."""
+def in_order(led):
+    """The keys of a dict of lists of keys, each one behind all in its list, as far as that can be."""
+    leading = {key: [] for key in led}
+    missing = {key: len(led[key]) for key in led}
+    for key in led:
+        for other in led[key]:
+            leading[other].append(key)
     found = []
-    for _ in hashed:
-        found = [name for name in hashed if all([other in found for other in hashed[name]])]
+    waiting = [key for key in led if missing[key] == 0]
+    while waiting:
+        found.append(waiting.pop())
+        for other in leading[found[-1]]:
+            missing[other] -= 1
+            if missing[other] == 0:
+                waiting.append(other)
     return found
 
 
-def _endless_walk(hashed, ending, start):
+def walk_round(led, ordered, start):
+    """The walk from a key that is not in order, from each key to one in its list, until it is where it was before."""
     walk = [start]
     while walk[-1] not in walk[:-1]:
-        # An object whose hash does not end always hashes another such object.
-        walk.append([other for other in hashed[walk[-1]] if other not in ending][0])
+        # What is not in order always has something in its list that is not in order either.
+        walk.append([other for other in led[walk[-1]] if other not in ordered][0])
     return tuple(walk)
+
+
+def _hashed_by(graph):
+    return {name: hashes(graph, name) for name in graph.names}
+
+
+def _led_to(led, starts):
+    found = {}
+    waiting = list(starts)
+    while waiting:
+        name = waiting.pop()
+        if name not in found:
+            found[name] = True
+            waiting.extend(led[name])
+    return sorted(found)
 
 
 def _has_names(thing):

@@ -61,20 +61,27 @@ class Schema:
 
     def grounded(self):
         """The ascending list of the classes of which some finite object can be hashed."""
-        found = []
-        # A class that is found late may ground others only in a further round.
-        for _ in self._names:
-            found = [name for name in self._names if self._is_grounded_by(name, found)]
-        return found
-
-    def _is_grounded_by(self, name, grounded):
-        read = self.reads(name)
-        # Rows and sets may be empty: only a single word must be there.
-        needed = [slot[3] for slot in self.slots(name) if slot[0] in read and slot[2] == "one"]
-        return all([_has_ground(targets, grounded) for targets in needed])
+        return sorted(ground_order(self))
 
 
-def _has_ground(targets, grounded):
+def ground_order(schema):
+    """The grounded classes, each one behind classes whose objects can end the hash of one of its objects."""
+    found = []
+    # A class that is found late may ground others only in a further round.
+    for _ in schema.names:
+        found = found + [name for name in schema.names if name not in found and _is_grounded_by(schema, name, found)]
+    return found
+
+
+def _is_grounded_by(schema, name, grounded):
+    read = schema.reads(name)
+    # Rows and sets may be empty: only a single word must be there.
+    needed = [slot[3] for slot in schema.slots(name) if slot[0] in read and slot[2] == "one"]
+    return all([has_ground(targets, grounded) for targets in needed])
+
+
+def has_ground(targets, grounded):
+    """Whether a word of these targets can be hashed: a number, or an object of a grounded class."""
     return any([target == "" or target in grounded for target in targets])
 
 

@@ -20,6 +20,42 @@ raises BadSchema(name=None)
 >>> graph = Graph(schema, {"b": ("box", (("p",),)), "p": ("pair", ("b", 7))})
 >>> (hashes(graph, "p"), members(graph), is_sound(graph))
 (['b'], ['p'], True)
+""", """
+>>> from halfbuilt.graphs import Graph
+>>> from halfbuilt.plans import needed, plan
+>>> from halfbuilt.schemas import Schema
+>>> schema = Schema([("box", (("items", "later", "set", ("", "pair")),), "own"), ("pair", (("left", "first", "one", ("", "box")), ("tag", "later", "one", ("",))), ("left", "tag"))])
+>>> graph = Graph(schema, {"b": ("box", (("p",),)), "p": ("pair", ("b", 7))})
+>>> (needed(graph, ("put", "b", "items", 0)), plan(graph))
+([('make', 'b'), ('make', 'p'), ('ready', 'p')], ('plan', (('make', 'b'), ('make', 'p'), ('put', 'p', 'tag', 0), ('put', 'b', 'items', 0))))
+""", """
+>>> from halfbuilt.graphs import Graph
+>>> from halfbuilt.plans import plan
+>>> from halfbuilt.schemas import Schema
+>>> rows = Schema([("t", (("of", "first", "row", ("t",)),), "own")])
+>>> plan(Graph(rows, {"x": ("t", (("x",),))}))
+('cycle', (('make', 'x'),))
+""", """
+>>> from halfbuilt.every import decided
+>>> from halfbuilt.schemas import Schema
+>>> schema = Schema([("box", (("items", "later", "set", ("", "pair")),), "own"), ("pair", (("left", "first", "one", ("", "box")), ("tag", "later", "one", ("",))), ("left", "tag"))])
+>>> rows = Schema([("t", (("of", "first", "row", ("t",)),), "own")])
+>>> (decided(schema)[0], decided(rows)[0])
+('good', 'bad')
+""", """
+>>> from halfbuilt.depth import early
+>>> from halfbuilt.graphs import Graph
+>>> from halfbuilt.schemas import Schema
+>>> odd = Schema([("box", (("items", "later", "set", ("pair",)),), "own"), ("pair", (("back", "later", "one", ("box",)), ("tag", "later", "one", ("",))), ("tag",))])
+>>> graph = Graph(odd, {"b": ("box", (("p",),)), "p": ("pair", ("b", 7))})
+>>> (early(graph, ["p"]), early(graph, ["b"]))
+([('b', 'items', 'p')], [])
+""", """
+>>> from halfbuilt.depth import calm, settled
+>>> from halfbuilt.schemas import Schema
+>>> odd = Schema([("box", (("items", "later", "set", ("pair",)),), "own"), ("pair", (("back", "later", "one", ("box",)), ("tag", "later", "one", ("",))), ("tag",))])
+>>> (calm(odd)[0], calm(settled(odd)))
+('early', ('calm', None))
 """]
 
 

@@ -6,12 +6,16 @@ import unittest
 
 PACKAGE = pathlib.Path(__file__).resolve().parent.parent / "halfbuilt"
 # In the order of the document: each module uses only modules before it.
-MODULES = ["errors", "schemas", "graphs"]
+MODULES = ["errors", "schemas", "graphs", "plans", "laying", "every", "depth"]
 DEFINED = {
     "errors": ["BuildError", "BadSchema", "BadGraph", "NoName", "NotSound", "NoOrder", "BadRoots", "BadStream",
                "BadEdit", "BadJournal", "BadText"],
     "schemas": ["is_name", "Schema"],
     "graphs": ["Graph", "hashes", "members", "is_sound", "endless", "reached"],
+    "plans": ["events", "needed", "plan", "is_plan", "is_cycle"],
+    "laying": [],
+    "every": ["kinds", "decided", "is_ranks"],
+    "depth": ["order", "early", "calm", "settled"],
 }
 METHODS = {
     "Schema": ["__init__", "__eq__", "classes", "names", "slots", "reads", "grounded"],
