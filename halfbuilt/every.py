@@ -1,6 +1,7 @@
 """All graphs of a schema: ranks if they have plans, otherwise a graph that has none."""
 
 from halfbuilt.laying import laid, laid_name, shortest_way, steps_from
+from halfbuilt.schemas import is_whole
 
 HIGHEST_RANK = 99
 
@@ -25,13 +26,9 @@ def is_ranks(schema, thing):
     all_kinds = kinds(schema)
     if not isinstance(thing, dict) or len(thing) != len(all_kinds):
         return False
-    if not all([kind in thing and _is_rank(thing[kind]) for kind in all_kinds]):
+    if not all([kind in thing and is_whole(thing[kind], 0, HIGHEST_RANK) for kind in all_kinds]):
         return False
     return all([thing[kind] >= _rank_for(_needs_of_kind(schema, kind), thing) for kind in all_kinds])
-
-
-def _is_rank(thing):
-    return isinstance(thing, int) and not isinstance(thing, bool) and 0 <= thing <= HIGHEST_RANK
 
 
 def _needs_of_kind(schema, kind):
@@ -57,7 +54,7 @@ def _least_ranks(schema):
 
 
 def _shortest_ring(schema):
-    """The shortest list of pairs (kind, slot), each leading to the next one, that has a strict need."""
+    """The shortest list of pairs (kind, slot), each leading to the next one, that has a strict need; [] if none has."""
     needs = {kind: _needs_of_kind(schema, kind) for kind in kinds(schema)}
     steps = {kind: [(slot_name, other) for slot_name, _, other in needs[kind]] for kind in needs}
     rings = []
@@ -66,7 +63,13 @@ def _shortest_ring(schema):
             way = shortest_way(steps, other, kind) if strict == 1 else None
             if way is not None:
                 rings.append([(kind, slot_name), *way])
-    return min(rings, key=len)
+    return min(rings, key=len, default=[])
+
+
+def strict_slots(schema):
+    """The ascending list of the pairs (class, slot) with the strict needs of a ring of kinds; [] for a good schema."""
+    return sorted({(kind[1], slot_name) for kind, slot_name in _shortest_ring(schema)
+                   if kind[0] == "make" or slot_name not in schema.reads(kind[1])})
 
 
 def _cycle_along(schema, ring):

@@ -1,7 +1,7 @@
 """Graphs: objects that refer to one another, and which of them hash which."""
 
 from halfbuilt.errors import BadGraph, BadRoots, NoName
-from halfbuilt.schemas import is_ascending, is_name
+from halfbuilt.schemas import is_ascending, is_name, is_whole
 
 LARGEST_NUMBER = 999
 MOST_OBJECTS = 24
@@ -58,6 +58,16 @@ class Graph:
         raise NoName(slot)
 
 
+def is_number(thing):
+    """Whether any value is an integer that a word can be."""
+    return is_whole(thing, -LARGEST_NUMBER, LARGEST_NUMBER)
+
+
+def place_in_set(word):
+    """What the words of a set are sorted by: integers come before names."""
+    return (isinstance(word, str), word)
+
+
 def objects_in(graph, name, slots):
     """The ascending list of the objects that are words of these slots of an object."""
     return sorted({word for slot in slots for word in graph.words(name, slot) if isinstance(word, str)})
@@ -95,7 +105,7 @@ def endless(graph):
 
 def hashed(graph):
     """The ascending list of the objects that are hashed: members, and what they hash, and so on."""
-    return _led_to(_hashed_by(graph), members(graph))
+    return led_to(_hashed_by(graph), members(graph))
 
 
 def reached(graph, roots):
@@ -104,7 +114,7 @@ def reached(graph, roots):
     led = {}
     for name in graph.names:
         led[name] = objects_in(graph, name, [slot[0] for slot in graph.schema.slots(graph.class_of(name))])
-    return _led_to(led, roots)
+    return led_to(led, roots)
 
 
 def check_roots(graph, roots):
@@ -148,7 +158,8 @@ def _hashed_by(graph):
     return {name: hashes(graph, name) for name in graph.names}
 
 
-def _led_to(led, starts):
+def led_to(led, starts):
+    """The ascending list of the keys to which some keys of a dict of lists of keys lead, themselves included."""
     found = {}
     waiting = list(starts)
     while waiting:
@@ -184,13 +195,11 @@ def _is_content(form, thing):
         return False
     if not all([_is_word(word) for word in thing]):
         return False
-    return form == "row" or is_ascending([(isinstance(word, str), word) for word in thing])
+    return form == "row" or is_ascending([place_in_set(word) for word in thing])
 
 
 def _is_word(thing):
-    if isinstance(thing, int) and not isinstance(thing, bool):
-        return -LARGEST_NUMBER <= thing <= LARGEST_NUMBER
-    return is_name(thing)
+    return is_number(thing) or is_name(thing)
 
 
 def _words_of(form, content):
@@ -199,12 +208,13 @@ def _words_of(form, content):
 
 def _is_allowed_object(schema, objects, pair):
     for slot, content in zip(schema.slots(pair[0]), pair[1]):
-        if not all([_is_allowed_word(objects, slot[3], word) for word in _words_of(slot[2], content)]):
+        if not all([is_allowed_word(objects, slot[3], word) for word in _words_of(slot[2], content)]):
             return False
     return True
 
 
-def _is_allowed_word(objects, targets, word):
+def is_allowed_word(objects, targets, word):
+    """Whether a word may stand in a slot with these targets, the objects being pairs that begin with a class."""
     if isinstance(word, int):
         return "" in targets
     return word in objects and objects[word][0] in targets

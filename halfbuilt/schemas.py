@@ -15,6 +15,11 @@ def is_name(thing):
     return all([letter in LETTERS for letter in thing])
 
 
+def is_whole(thing, least, most):
+    """Whether any value is an integer from least to most."""
+    return isinstance(thing, int) and not isinstance(thing, bool) and least <= thing <= most
+
+
 def is_ascending(items):
     """Whether each item is less than the next one, so that none occurs twice."""
     return all([items[at] < items[at + 1] for at in range(len(items) - 1)])

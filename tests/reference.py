@@ -260,3 +260,177 @@ def are_ranks(schema, ranks):
     needs = needs_of_kinds(schema)
     return all(ranks[kind] > ranks[other] if strict else ranks[kind] >= ranks[other]
                for kind in needs for other, strict in needs[kind])
+
+
+class WrongOperation(Exception):
+    """An operation of a stream is wrong."""
+
+
+def must(held):
+    if not held:
+        raise WrongOperation
+
+
+class PlainStream:
+    """The points [60] and [61], word by word. Objects on the stack are names, marks are the string "mark here"."""
+
+    def __init__(self, schema):
+        self.slots = {row[0]: row[1] for row in schema.classes}
+        self.reads = {row[0]: () if row[2] == "own" else row[2] for row in schema.classes}
+        self.stack, self.made, self.roots = [], {}, []
+
+    def word(self):
+        must(self.stack and self.stack[-1] != "mark here")
+        return self.stack.pop()
+
+    def all_words(self):
+        """The tuples (object, slot, word) for all words that are in slots, and are objects."""
+        return {(name, slot, word) for name, (class_name, held) in self.made.items() for slot in self.slots[class_name]
+                for word in held[slot[0]] if isinstance(word, str)}
+
+    def is_read(self, name, slot):
+        return slot[0] in self.reads[self.made[name][0]]
+
+    def settled(self):
+        found = set()
+        while True:
+            more = set()
+            for name, (class_name, held) in self.made.items():
+                laters = [slot for slot in self.slots[class_name] if slot[1] == "later" and slot[2] == "one"]
+                filled = all(held[slot[0]] for slot in laters if self.is_read(name, slot))
+                hashed = {word for other, slot, word in self.all_words() if other == name and self.is_read(name, slot)}
+                if filled and hashed <= found:
+                    more.add(name)
+            if more == found:
+                return found
+            found = more
+
+    def used(self, more):
+        found = set(more) | {word for _, slot, word in self.all_words() if slot[2] == "set"}
+        while True:
+            more = found | {word for name, slot, word in self.all_words() if name in found and self.is_read(name, slot)}
+            if more == found:
+                return found
+            found = more
+
+    def check_words(self, slot, words):
+        must(len(words) <= 4)
+        for word in words:
+            must("" in slot[3] if isinstance(word, int) else self.made[word][0] in slot[3])
+        if slot[2] == "set":
+            must(len(words) == len(set(words)))
+            must({word for word in words if isinstance(word, str)} <= self.settled())
+
+    def make(self, class_name):
+        must(any(class_name == name for name in self.slots))
+        must(len(self.made) < 24)
+        held = {slot[0]: [] for slot in self.slots[class_name]}
+        for slot in reversed([slot for slot in self.slots[class_name] if slot[1] == "first"]):
+            if slot[2] == "one":
+                held[slot[0]] = [self.word()]
+            else:
+                must("mark here" in self.stack)
+                while self.stack[-1] != "mark here":
+                    held[slot[0]].insert(0, self.stack.pop())
+                self.stack.pop()
+            self.check_words(slot, held[slot[0]])
+        name = "o" + "abcdefghijklmnopqrstuvwx"[len(self.made)]
+        self.made[name] = (class_name, held)
+        self.stack.append(name)
+
+    def put(self, slot_name):
+        word = self.word()
+        must(self.stack and isinstance(self.stack[-1], str) and self.stack[-1] != "mark here")
+        name = self.stack[-1]
+        class_name, held = self.made[name]
+        slots = [slot for slot in self.slots[class_name] if slot[:2] == (slot_name, "later")]
+        must(slots)
+        slot = slots[0]
+        must(slot[2] != "one" or not held[slot_name])
+        self.check_words(slot, held[slot_name] + [word])
+        more = {word} if slot[2] == "set" and isinstance(word, str) else set()
+        must(not (self.is_read(name, slot) and name in self.used(more)))
+        held[slot_name].append(word)
+
+    def do(self, operation):
+        must(isinstance(operation, tuple) and operation)
+        word, *parts = operation
+        counts = {"number": 1, "get": 1, "mark": 0, "make": 1, "put": 1, "pop": 0, "root": 0}
+        must(isinstance(word, str) and counts.get(word) == len(parts))
+        if word == "number":
+            must(type(parts[0]) is int and abs(parts[0]) <= 999)
+            self.stack.append(parts[0])
+        elif word == "get":
+            must(type(parts[0]) is int and 0 <= parts[0] < len(self.made))
+            self.stack.append(sorted(self.made)[parts[0]])
+        elif word == "mark":
+            self.stack.append("mark here")
+        elif word == "make":
+            self.make(parts[0])
+        elif word == "put":
+            self.put(parts[0])
+        elif word == "pop":
+            self.word()
+        else:
+            root = self.word()
+            must(isinstance(root, str))
+            self.roots.append(root)
+
+    def is_whole(self):
+        return not self.stack and all(held[slot[0]] for class_name, held in self.made.values()
+                                      for slot in self.slots[class_name] if slot[2] == "one")
+
+    def objects(self):
+        found = {}
+        for name, (class_name, held) in self.made.items():
+            contents = []
+            for slot in self.slots[class_name]:
+                words = held[slot[0]]
+                if slot[2] == "set":
+                    words = sorted(word for word in words if isinstance(word, int)) + sorted(objects_among(words))
+                contents.append(words[0] if slot[2] == "one" else tuple(words))
+            found[name] = (class_name, tuple(contents))
+        return found
+
+
+def read_stream(schema, stream):
+    """The pair (objects, roots) that a stream builds, or the index of its first wrong operation."""
+    plain = PlainStream(schema)
+    for index, operation in enumerate(stream):
+        try:
+            plain.do(operation)
+        except WrongOperation:
+            return index
+    return (plain.objects(), tuple(plain.roots)) if plain.is_whole() else len(stream)
+
+
+def are_same(one, roots, other, others):
+    """All maps that show that two graphs are the same, by point [62], found among all maps."""
+    left = sorted(all_reached(one, roots))
+    found = []
+    for chosen in itertools.permutations(sorted(all_reached(other, others))):
+        if len(chosen) == len(left):
+            images = dict(zip(left, chosen))
+            if [images[root] for root in roots] == list(others) and all(
+                    row_of(one, name, images) == row_of(other, images[name], None) for name in left):
+                found.append(images)
+    return found
+
+
+def all_reached(graph, roots):
+    found = set(roots)
+    while True:
+        more = found | {word for name in found for _, words in slots_of(graph, name) for word in objects_among(words)}
+        if more == found:
+            return found
+        found = more
+
+
+def row_of(graph, name, images):
+    """The class of an object, and its slots with their words, which are mapped unless images is None."""
+    row = [graph.objects[name][0]]
+    for slot, words in slots_of(graph, name):
+        if images is not None:
+            words = [images.get(word, word) for word in words]
+        row.append((slot, set(words) if slot[2] == "set" else words))
+    return row

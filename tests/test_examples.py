@@ -56,6 +56,35 @@ raises BadSchema(name=None)
 >>> odd = Schema([("box", (("items", "later", "set", ("pair",)),), "own"), ("pair", (("back", "later", "one", ("box",)), ("tag", "later", "one", ("",))), ("tag",))])
 >>> (calm(odd)[0], calm(settled(odd)))
 ('early', ('calm', None))
+""", """
+>>> from halfbuilt.repairs import repairs
+>>> from halfbuilt.schemas import Schema
+>>> schema = Schema([("box", (("items", "later", "set", ("", "pair")),), "own"), ("pair", (("left", "first", "one", ("", "box")), ("tag", "later", "one", ("",))), ("left", "tag"))])
+>>> rows = Schema([("t", (("of", "first", "row", ("t",)),), "own")])
+>>> (repairs(schema), repairs(rows))
+([()], [(('t', 'of'),)])
+""", """
+>>> from halfbuilt.schemas import Schema
+>>> from halfbuilt.streams import read
+>>> cells = Schema([("cell", (("value", "later", "one", ("",)),), "own")])
+>>> graph, roots = read(cells, [("make", "cell"), ("number", 5), ("put", "value"), ("root",)])
+>>> (graph.objects, roots)
+({'oa': ('cell', (5,))}, ('oa',))
+""", """
+>>> from halfbuilt.schemas import Schema
+>>> from halfbuilt.streams import read
+>>> cells = Schema([("cell", (("value", "later", "one", ("",)),), "own")])
+>>> read(cells, [("make", "cell"), ("put", "value")])
+raises BadStream(index=1)
+""", """
+>>> from halfbuilt.alike import same
+>>> from halfbuilt.graphs import Graph
+>>> from halfbuilt.schemas import Schema
+>>> schema = Schema([("box", (("items", "later", "set", ("", "pair")),), "own"), ("pair", (("left", "first", "one", ("", "box")), ("tag", "later", "one", ("",))), ("left", "tag"))])
+>>> graph = Graph(schema, {"b": ("box", (("p",),)), "p": ("pair", ("b", 7))})
+>>> other = Graph(schema, {"x": ("box", (("y",),)), "y": ("pair", ("x", 7))})
+>>> (same(graph, ["b"], other, ["x"]), same(graph, ["b"], other, ["y"]))
+({'b': 'x', 'p': 'y'}, None)
 """]
 
 

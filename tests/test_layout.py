@@ -6,7 +6,7 @@ import unittest
 
 PACKAGE = pathlib.Path(__file__).resolve().parent.parent / "halfbuilt"
 # In the order of the document: each module uses only modules before it.
-MODULES = ["errors", "schemas", "graphs", "plans", "laying", "every", "depth"]
+MODULES = ["errors", "schemas", "graphs", "plans", "laying", "every", "depth", "repairs", "streams", "alike"]
 DEFINED = {
     "errors": ["BuildError", "BadSchema", "BadGraph", "NoName", "NotSound", "NoOrder", "BadRoots", "BadStream",
                "BadEdit", "BadJournal", "BadText"],
@@ -16,6 +16,9 @@ DEFINED = {
     "laying": [],
     "every": ["kinds", "decided", "is_ranks"],
     "depth": ["order", "early", "calm", "settled"],
+    "repairs": ["later", "repairs"],
+    "streams": ["read", "stream_of", "depth_stream"],
+    "alike": ["same", "is_same"],
 }
 METHODS = {
     "Schema": ["__init__", "__eq__", "classes", "names", "slots", "reads", "grounded"],
