@@ -80,10 +80,10 @@ def _matched(nodes, colors):
     if sorted(list(left.values())) != sorted(list(right.values())):
         return None
     images = {name: [image for image in right if right[image] == left[name]] for name in left}
-    open_names = [name for name in images if len(images[name]) > 1]
-    if not open_names:
+    doubtful = [name for name in images if len(images[name]) > 1]
+    if not doubtful:
         return {name: images[name][0] for name in images}
-    chosen = open_names[0]
+    chosen = doubtful[0]
     for image in images[chosen]:
         # No other node has this color.
         found = _matched(nodes, {**colors, (0, chosen): -1, (1, image): -1})

@@ -1,6 +1,7 @@
-"""The points [21], [30], [31] and [50] to [52] written down once more, as plainly as can be, and all small graphs.
+"""The points [21], [30], [31], [50] to [52] and [60] to [62] written down once more, and all small graphs.
 
-Nothing here is quick, and nothing of the program is used but the schemas and objects of graphs.
+It is written as plainly as can be: nothing here is quick, and nothing of the program is used but the schemas and
+objects of graphs.
 """
 
 import itertools

@@ -6,7 +6,8 @@ import unittest
 
 PACKAGE = pathlib.Path(__file__).resolve().parent.parent / "halfbuilt"
 # In the order of the document: each module uses only modules before it.
-MODULES = ["errors", "schemas", "graphs", "plans", "laying", "every", "depth", "repairs", "streams", "alike"]
+MODULES = ["errors", "schemas", "graphs", "plans", "laying", "every", "depth", "repairs", "streams", "alike",
+           "editing", "journals", "texts", "desk"]
 DEFINED = {
     "errors": ["BuildError", "BadSchema", "BadGraph", "NoName", "NotSound", "NoOrder", "BadRoots", "BadStream",
                "BadEdit", "BadJournal", "BadText"],
@@ -19,10 +20,16 @@ DEFINED = {
     "repairs": ["later", "repairs"],
     "streams": ["read", "stream_of", "depth_stream"],
     "alike": ["same", "is_same"],
+    "editing": ["Editor", "carried"],
+    "journals": ["journal_of", "first_wrong", "replayed"],
+    "texts": ["schema_text", "graph_text", "read_schema", "read_graph"],
+    "desk": ["Desk", "answers"],
 }
 METHODS = {
     "Schema": ["__init__", "__eq__", "classes", "names", "slots", "reads", "grounded"],
     "Graph": ["__init__", "__eq__", "schema", "objects", "names", "words"],
+    "Editor": ["__init__", "__eq__", "schema", "do", "do_all", "attempt", "log", "twin"],
+    "Desk": ["__init__", "say"],
 }
 # What the rules of the language leave out altogether.
 LEFT_OUT = (ast.GeneratorExp, ast.Div, ast.Global, ast.AsyncFunctionDef, ast.Import)

@@ -137,7 +137,8 @@ class RepairsTest(unittest.TestCase):
                          ("b", (("z", "first", "row", ("a",)),), "own")])
         self.check(schema, (("b", "z"),), (("a", "x"), ("a", "y")))
         schema = Schema([("a", (("y", "first", "row", ("b",)), ("x", "first", "row", ("c",))), "own"),
-                         ("b", (("w", "first", "row", ("a",)),), "own"), ("c", (("v", "first", "row", ("a",)),), "own")])
+                         ("b", (("w", "first", "row", ("a",)),), "own"),
+                         ("c", (("v", "first", "row", ("a",)),), "own")])
         self.check(schema, (("a", "x"), ("a", "y")), (("a", "x"), ("b", "w")), (("a", "y"), ("c", "v")),
                    (("b", "w"), ("c", "v")))
 
